@@ -1,0 +1,1 @@
+"""Shortfigures: numbers shown short, with units."""
