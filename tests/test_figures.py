@@ -142,9 +142,9 @@ class WrongArgumentsTest(ErrorCase):
             self.assert_no_figure(NEAR, value)
 
     def test_missing_or_wrong_parts(self):
-        for text in ("", "K", ".", ".K", ".5K", "1.K", "1K", "1.00K", "10K", "1.0", "0.0", "1.0B", "1.0k", "1.0KM", "1.0KK",
-                     "1.0MK", "1.0Kilo", "K1.0", "1.0.0K", "1..0K", "..1K", "1.K0", "1K.0", "1.0K.", ".1.0K", "5K0",
-                     "1.0K5", "5x", "10.", "100.0", "1,0K", "1.0,K"):
+        for text in ("", "K", ".", ".K", ".5K", "1.K", "1K", "1.00K", "10K", "1.0", "0.0", "1.0B", "1.0k", "1.0KM",
+                     "1.0KK", "1.0MK", "1.0Kilo", "K1.0", "1.0.0K", "1..0K", "..1K", "1.K0", "1K.0", "1.0K.", ".1.0K",
+                     "5K0", "1.0K5", "5x", "10.", "100.0", "1,0K", "1.0,K"):
             self.assert_no_figure(NEAR, text)
         for text in ("1.0K", "1.K", ".1K", "0.5K", "1.", "K", "1k"):
             self.assert_no_figure(PLAIN, text)
@@ -160,9 +160,9 @@ class WrongArgumentsTest(ErrorCase):
             self.assert_no_figure(PLAIN, text)
 
     def test_signs_and_other_characters(self):
-        for text in ("-1", "+1", "-0", "+0", "-1.0K", "+1.0K", "1_000", "1,000", "1e3", "1E3", "0x1", "0b1", "1.0-K", "1.0_K",
-                     " 1", "1 ", "1\n", "\n1", "1\t", "1.0 K", "1.0K ", " 1.0K", "1. 0K", "1.0K\n", "1\0", "\0", "%",
-                     "1.0K\r", "1'000", "1/2", "(1)", "$1", "1:", "1.0;K", "nan", "inf"):
+        for text in ("-1", "+1", "-0", "+0", "-1.0K", "+1.0K", "1_000", "1,000", "1e3", "1E3", "0x1", "0b1", "1.0-K",
+                     "1.0_K", " 1", "1 ", "1\n", "\n1", "1\t", "1.0 K", "1.0K ", " 1.0K", "1. 0K", "1.0K\n", "1\0", "\0",
+                     "%", "1.0K\r", "1'000", "1/2", "(1)", "$1", "1:", "1.0;K", "nan", "inf"):
             self.assert_no_figure(NEAR, text)
 
     def test_characters_that_are_not_ascii(self):

@@ -57,7 +57,8 @@ class ShowTest(unittest.TestCase):
                          shows(Ladder(THOUSANDS, 1, "near", carry=False), 999950, 999999, 1000000))
         self.assertEqual(["999.9K", "1000.0K", "1.0M"],
                          shows(Ladder(THOUSANDS, 1, "up", carry=False), 999900, 999901, 1000000))
-        self.assertEqual(["999K", "999K", "1M"], shows(Ladder(THOUSANDS, 0, "down", carry=False), 999000, 999999, 10 ** 6))
+        ladder = Ladder(THOUSANDS, 0, "down", carry=False)
+        self.assertEqual(["999K", "999K", "1M"], shows(ladder, 999000, 999999, 10 ** 6))
 
     def test_nothing_is_carried_beyond_the_last_unit(self):
         self.assertEqual(["1000.0K", "1000000.0K"], shows(Ladder(THOUSANDS[:2], 1, "near"), 999950, 999999990))
@@ -66,9 +67,11 @@ class ShowTest(unittest.TestCase):
         ladder = Ladder(THOUSANDS, 1, "near", least=10)
         self.assertEqual(["9999", "10.0K", "9999.9K", "10.0M"], shows(ladder, 9999, 10000, 9999949, 9999950))
         ladder = Ladder(THOUSANDS, 1, "near", carry=False, least=10)
-        self.assertEqual(["9999.9K", "10000.0K", "10000.0K", "10.0M"], shows(ladder, 9999949, 9999950, 9999999, 10 ** 7))
+        self.assertEqual(["9999.9K", "10000.0K", "10000.0K", "10.0M"],
+                         shows(ladder, 9999949, 9999950, 9999999, 10 ** 7))
         ladder = Ladder(THOUSANDS, 0, "up", least=1000)
-        self.assertEqual(["0", "999999", "1000K", "1001K", "1000M"], shows(ladder, 0, 999999, 10 ** 6, 1000001, 10 ** 9))
+        self.assertEqual(["0", "999999", "1000K", "1001K", "1000M"],
+                         shows(ladder, 0, 999999, 10 ** 6, 1000001, 10 ** 9))
 
     def test_decimals(self):
         units = (("", 1), ("K", 2000))
@@ -84,7 +87,8 @@ class ShowTest(unittest.TestCase):
             self.assertEqual("1.00Q", show(Ladder(LONG, 2, rounding), 10 ** 18))
             self.assertEqual("1000000.0T", show(Ladder(LONG, 1, rounding, least=2), 10 ** 18))
             self.assertEqual("1000000000000.0M", show(Ladder(THOUSANDS, 1, rounding), 10 ** 18))
-        self.assertEqual(["999999.9T", "1.0Q"], shows(Ladder(LONG, 1, "near"), 10 ** 18 - 5 * 10 ** 10 - 1, 10 ** 18 - 1))
+        self.assertEqual(["999999.9T", "1.0Q"],
+                         shows(Ladder(LONG, 1, "near"), 10 ** 18 - 5 * 10 ** 10 - 1, 10 ** 18 - 1))
 
     def test_zero(self):
         for rule in rules(SMALL + LARGE, LEASTS):

@@ -3,27 +3,18 @@
 import unittest
 
 
-class Agreeable:
-    """An object that says of everything that it is equal to it."""
-
-    def __eq__(self, other):
-        return True
-
-    def __hash__(self):
-        return 0
-
-
-def nested(depth):
+def nested(levels):
+    """Return tuples within tuples, so many levels deep."""
     thing = ()
-    for _ in range(depth):
+    for _ in range(levels - 1):
         thing = (thing,)
     return thing
 
 
 def odd_values():
     """Return values that are neither integers, nor strings, nor tuples that could be anything here."""
-    return [None, b"", b"5", [], ["5"], (), ("5",), {}, {"5": 5}, set(), {5}, frozenset(), object(), Agreeable(),
-            len, int, ValueError, ValueError("5"), range(5), lambda number: number, nested(14), [[[[5]]]]]
+    return [None, b"", b"5", [], ["5"], (), ("5",), {}, {"5": 5}, set(), {5}, frozenset(), object(), len, int,
+            ValueError, ValueError("5"), range(5), lambda number: number, nested(10), [[[[5]]]]]
 
 
 class ErrorCase(unittest.TestCase):
