@@ -161,8 +161,8 @@ class WrongArgumentsTest(ErrorCase):
 
     def test_signs_and_other_characters(self):
         for text in ("-1", "+1", "-0", "+0", "-1.0K", "+1.0K", "1_000", "1,000", "1e3", "1E3", "0x1", "0b1", "1.0-K",
-                     "1.0_K", " 1", "1 ", "1\n", "\n1", "1\t", "1.0 K", "1.0K ", " 1.0K", "1. 0K", "1.0K\n", "1\0", "\0",
-                     "%", "1.0K\r", "1'000", "1/2", "(1)", "$1", "1:", "1.0;K", "nan", "inf"):
+                     "1.0_K", " 1", "1 ", "1\n", "\n1", "1\t", "1.0 K", "1.0K ", " 1.0K", "1. 0K", "1.0K\n", "1\0",
+                     "\0", "%", "1.0K\r", "1'000", "1/2", "(1)", "$1", "1:", "1.0;K", "nan", "inf"):
             self.assert_no_figure(NEAR, text)
 
     def test_characters_that_are_not_ascii(self):
