@@ -4,7 +4,7 @@ from shortfigures.errors import (
     InvalidCarry, InvalidDecimals, InvalidFigure, InvalidLeast, InvalidNumber, InvalidRounding, NotALadder)
 from shortfigures.kinds import is_within
 from shortfigures.limits import MOST_DECIMALS, MOST_LEAST, MOST_NUMBER
-from shortfigures.marks import ROUNDINGS, is_reached, parts_of, placed, written
+from shortfigures.marks import ROUNDINGS, figure_of, is_reached, parts_of
 from shortfigures.units import check_units
 
 # How many parts a size is divided into, for each number of decimals.
@@ -45,8 +45,7 @@ def show(ladder, number):
     """Return the figure of a number."""
     check_ladder(ladder)
     check_number(number)
-    place, mark = placed(ladder, number)
-    return written(ladder, place, mark)
+    return figure_of(ladder, number)
 
 
 def worth(ladder, text):

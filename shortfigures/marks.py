@@ -18,6 +18,12 @@ def placed(ladder, number):
     return place + 1, rounded(number, ladder.steps[place + 1], ladder.rounding)
 
 
+def figure_of(ladder, number):
+    """Return the figure by which an integer from 0 on is shown."""
+    place, mark = placed(ladder, number)
+    return written(ladder, place, mark)
+
+
 def rounded(number, step, rounding):
     """Return the quotient of a number and a step, rounded to an integer."""
     below, rest = divmod(number, step)

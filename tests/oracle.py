@@ -30,6 +30,9 @@ LARGE = (
 )
 LEASTS = (1, 2, 3, 7, 10, 999, 1000)
 
+# The figures of small numbers by rule, as far as they have been asked for.
+KNOWN = {}
+
 
 def rules(table, leasts):
     """Return all rules with these units and decimals and leasts."""
@@ -74,6 +77,84 @@ def written(rule, place, mark):
 
 def shown(rule, number):
     return written(rule, *placed(rule, number))
+
+
+def worth_of_shown(rule, number):
+    place, mark = placed(rule, number)
+    return mark * step_of(rule, place)
+
+
+def texts(rule, last):
+    """Return the list of the figures of all numbers from 0 to the last one."""
+    known = KNOWN.setdefault(rule, [])
+    while len(known) <= last:
+        text = shown(rule, len(known))
+        known.append(known[-1] if known and known[-1] == text else text)
+    return known[:last + 1]
+
+
+def runs(rule, last):
+    """Return triples of a figure and its range, as seen by going through the numbers up to the last one.
+
+    The run that goes on behind the last number is left out.
+    """
+    found = []
+    for number, text in enumerate(texts(rule, last)):
+        if found and found[-1][0] == text:
+            found[-1][2] = number
+        else:
+            found.append([text, number, number])
+    return [tuple(run) for run in found[:-1]]
+
+
+def far_enough(*some):
+    """Return a number behind all thresholds of some rules and behind some figures of their greatest units."""
+    low = max(threshold_of(rule, place) for rule in some for place in range(len(rule[0])))
+    return low + 12 * max(step_of(rule, len(rule[0]) - 1) for rule in some) + 20
+
+
+def first_seen(*some, holds):
+    """Return the first number for which something holds, by going through all that are not too far, or None.
+
+    `holds` gets the lists of the figures by the rules, and the number, behind which there is one more.
+    """
+    end, start = far_enough(*some), 0
+    while start < end:
+        stop = min(end, 2 * start + 50)
+        shown_by = [texts(rule, stop) for rule in some]
+        for number in range(start, stop):
+            if holds(*shown_by, number):
+                return number
+        start = stop
+    return None
+
+
+def variants(rule):
+    """Return all rules that are this one with one part changed, as far as there is such a ladder."""
+    units, decimals, rounding, carry, least = rule
+    found = [(units, decimals, other, carry, least) for other in ROUNDINGS]
+    found += [(units, decimals, rounding, not carry, least)]
+    found += [(units, decimals, rounding, carry, other) for other in (1, 2, 3, 4, 7)]
+    found += [(units, other, rounding, carry, least) for other in range(4)]
+    found += [(units[:-1], decimals, rounding, carry, least)]
+    found += [(units + (("New", units[-1][1] * many),), decimals, rounding, carry, least) for many in (2, 3, 20)]
+    for place, (name, size) in enumerate(units):
+        found += [(units[:place] + ((other, by * size),) + units[place + 1:], decimals, rounding, carry, least)
+                  for other, by in (("new", 1), (name, 2), (name, 3))]
+    return [other for other in found if other != rule and is_rule(other)]
+
+
+def small_variants(rule):
+    """Return those of the variants of a rule for which it does not take long to go through the numbers."""
+    return [other for other in variants(rule) if far_enough(rule, other) <= 3000]
+
+
+def is_rule(rule):
+    """Tell whether units and decimals, of which the names are good, go together."""
+    sizes = [size for _, size in rule[0]]
+    return (1 <= len(sizes) <= 6 and sizes[0] == 1 and sizes[-1] <= 10 ** 18
+            and all(low < high and high % low == 0 for low, high in zip(sizes, sizes[1:]))
+            and all(size % (2 * 10 ** rule[1]) == 0 for size in sizes[1:]))
 
 
 def telling_numbers(rule):

@@ -2,6 +2,9 @@
 
 import unittest
 
+from shortfigures.ladders import Ladder
+from shortfigures.samples import sample_ladder
+
 
 def nested(levels):
     """Return tuples within tuples, so many levels deep."""
@@ -15,6 +18,16 @@ def odd_values():
     """Return values that are neither integers, nor strings, nor tuples that could be anything here."""
     return [None, b"", b"5", [], ["5"], (), ("5",), {}, {"5": 5}, set(), {5}, frozenset(), object(), len, int,
             ValueError, ValueError("5"), range(5), lambda number: number, nested(10), [[[[5]]]]]
+
+
+# Values that are neither ladders nor numbers nor figures of the sample ladder, and some of its figures
+# that are never shown.
+NO_LADDERS = ["near", "", 5, True, ((("", 1), ("K", 1000)), 1, "near", True, 1), Ladder, sample_ladder] + odd_values()
+NO_NUMBERS = [-1, 10 ** 18 + 1, -10 ** 21, 10 ** 21, True, False, "5", "", sample_ladder()] + odd_values()
+NO_FIGURES = ["", "1K", "K", "01", "1.00K", "01.0K", "1.0k", "1.0B", "-1", "+1", " 1", "1.0 K", "1\n", "1.0", ".5K",
+              "\u0661", "1" + "0" * 24, "1" + "0" * 23 + ".0K", 5, 0, True, False, ["1.0K"], ("1.0K",), b"1.0K",
+              sample_ladder()] + odd_values()
+UNSHOWN = ("0.5K", "0.0K", "0.9K", "1000.0K", "1000.1K", "1000", "1001", "0.9M", "0.0M")
 
 
 class ErrorCase(unittest.TestCase):
