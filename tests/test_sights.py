@@ -120,9 +120,10 @@ class SightsTest(unittest.TestCase):
             self.check(seen_range(pairs), seen_needed(pairs), *[(made(rule), text) for rule, text in pairs])
             kind = (len(pairs), seen_range(pairs) is None, len(seen_needed(pairs)))
             many[kind] = many.get(kind, 0) + 1
-        for kind in ((1, False, 1), (1, True, 1), (2, False, 0), (2, False, 1), (2, False, 2), (2, True, 1), (2, True, 2),
-                     (3, False, 0), (3, False, 1), (3, False, 2), (3, True, 0), (3, True, 1), (4, False, 0),
-                     (4, False, 1), (4, False, 2), (4, True, 0), (4, True, 1)):
+        for kind in ((1, False, 1), (1, True, 1),
+                     (2, False, 0), (2, False, 1), (2, False, 2), (2, True, 1), (2, True, 2),
+                     (3, False, 0), (3, False, 1), (3, False, 2), (3, True, 0), (3, True, 1),
+                     (4, False, 0), (4, False, 1), (4, False, 2), (4, True, 0), (4, True, 1)):
             self.assertGreater(many.get(kind, 0), 2, kind)
 
     def test_large_numbers(self):

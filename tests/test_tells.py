@@ -143,8 +143,9 @@ class FiguresInTest(unittest.TestCase):
 
     def test_ordinary_figures(self):
         self.assertEqual([("1K", "2K"), ("1.5K", "2.5K"), ("999", "999"), ("1K", "1K"), ("1.0K", "1.5K")],
-                         [figures_in(NEAR, "1.5K", PLAIN), figures_in(PLAIN, "2K", NEAR), figures_in(NEAR, "999", PLAIN),
-                          figures_in(NEAR, "1.0K", PLAIN), figures_in(PLAIN, "1K", NEAR)])
+                         [figures_in(NEAR, "1.5K", PLAIN), figures_in(PLAIN, "2K", NEAR),
+                          figures_in(NEAR, "999", PLAIN), figures_in(NEAR, "1.0K", PLAIN),
+                          figures_in(PLAIN, "1K", NEAR)])
         self.assertEqual(("1000x", "1049x"), figures_in(NEAR, "1.0K", ONE))
         self.assertEqual(("1.0K", "1.0K"), figures_in(ONE, "1000x", NEAR))
         self.assertEqual(("1000.0K", "1.0M"), figures_in(NEAR, "1.0M", Ladder(THOUSANDS, 1, "near", carry=False)))
