@@ -113,6 +113,25 @@ def far_enough(*some):
     return low + 12 * max(step_of(rule, len(rule[0]) - 1) for rule in some) + 20
 
 
+def first_behind(low, high, holds):
+    """Return the first integer from `low` to `high` for which something holds that goes on to hold, by halving."""
+    while low < high:
+        middle = (low + high) // 2
+        low, high = (low, middle) if holds(middle) else (middle + 1, high)
+    return low
+
+
+def range_about(rule, number):
+    """Return the range of the numbers that are shown like this one, since figures follow one another."""
+    wanted = placed(rule, number)
+    far = 1
+    while placed(rule, number + far) == wanted:
+        far *= 2
+    low = first_behind(0, number, lambda other: placed(rule, other) >= wanted)
+    high = first_behind(number, number + far, lambda other: placed(rule, other) > wanted) - 1
+    return low, high
+
+
 def first_seen(*some, holds):
     """Return the first number for which something holds, by going through all that are not too far, or None.
 
